@@ -1,0 +1,1 @@
+"""Heaps on an endless line of places, and what is left of them when all rest."""
