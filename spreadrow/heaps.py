@@ -5,8 +5,8 @@ given, and when all rest at most one of such places has none: of two of them,
 and all places between, the one whose last giving came first was given
 something by each neighbour among these afterwards. The places just beyond
 those that gave have one each. So a block of n rests on n + 1 places side by
-side less one of them, and as giving keeps the sum of all places, that sum
-tells which.
+side less one of them, and the sum of all places, which giving keeps, tells
+which ones.
 """
 
 from spreadrow.errors import BadHeaps, BadPlace
@@ -36,18 +36,18 @@ def check_place(place):
 
 
 class Block:
-    """As many as `many`, at least one, with the sum of their places `total`, at rest."""
+    """One or more, `many` of them, at rest: their places add up to `total`."""
 
     def __init__(self, many, total):
         steps = many * (many + 1) // 2
         first = (total - steps) // many + 1
-        # All n + 1 places from the first on, less the one that the sum lacks.
+        # Of many + 1 places from the first on, the one that the sum is without.
         gap = (many + 1) * first + steps - total
         last = first + many
         self.many = many
         self.total = total
         self.parts = [(first, gap - 1)]
-        # Otherwise the gap is the last place, and the block has none within.
+        # Otherwise the gap is the last place, and the block is whole.
         if gap < last:
             self.parts.append((gap + 1, last))
 
